@@ -1,0 +1,85 @@
+"""The folder of the package, and the names and parameters of the document's interface [8]."""
+
+import importlib
+import inspect
+import os
+import unittest
+
+ROOT = os.path.dirname(os.path.dirname(os.path.abspath(__file__)))
+PACKAGE = os.path.join(ROOT, "everyzone")
+
+FUNCTIONS = {
+    "words": {
+        "is_integer": "(value, low, high)",
+        "is_name": "(value)",
+        "is_time": "(value)",
+        "day_of": "(reading)",
+        "time_of": "(reading)",
+        "reading_of": "(day, time)",
+        "time_text": "(time)",
+        "time_from": "(text)",
+    },
+    "zones": {"unlike_at": "(one, other)"},
+}
+
+METHODS = {
+    ("zones", "Zone"): {
+        "__init__": "(self, offset, changes=())",
+        "changes": "(self)",
+        "jump_list": "(self)",
+        "__len__": "(self)",
+        "__contains__": "(self, x)",
+        "__eq__": "(self, other)",
+        "offset_at": "(self, moment)",
+        "read": "(self, moment)",
+        "moments_of": "(self, reading)",
+        "gaps": "(self)",
+        "folds": "(self)",
+        "place": "(self, reading, rule)",
+        "moved": "(self, minutes)",
+        "raised": "(self, minutes)",
+        "until": "(self, moment)",
+        "since": "(self, moment)",
+    },
+}
+
+PROPERTIES = {("zones", "Zone"): ["first"]}
+
+
+class Folder(unittest.TestCase):
+    def test_only_files_of_python(self):
+        for folder, folders, files in os.walk(PACKAGE):
+            self.assertEqual([name for name in folders if name != "__pycache__"], [])
+            if os.path.basename(folder) != "__pycache__":
+                self.assertEqual([name for name in files if not name.endswith(".py")], [])
+                self.assertIn("__init__.py", files)
+                self.assertEqual([name for name in files if name.startswith("test")], [])
+
+
+class Interface(unittest.TestCase):
+    def test_functions_are_defined_in_their_files(self):
+        for file, functions in FUNCTIONS.items():
+            module = importlib.import_module(f"everyzone.{file}")
+            for name, parameters in functions.items():
+                function = getattr(module, name)
+                self.assertTrue(inspect.isfunction(function), name)
+                self.assertEqual(function.__module__, f"everyzone.{file}", name)
+                self.assertEqual(str(inspect.signature(function)), parameters, name)
+
+    def test_methods_are_defined_in_their_classes(self):
+        for (file, name), methods in METHODS.items():
+            made = getattr(importlib.import_module(f"everyzone.{file}"), name)
+            self.assertEqual(made.__module__, f"everyzone.{file}", name)
+            for method, parameters in methods.items():
+                self.assertIn(method, vars(made))
+                self.assertEqual(str(inspect.signature(vars(made)[method])), parameters, method)
+
+    def test_properties_are_defined_in_their_classes(self):
+        for (file, name), properties in PROPERTIES.items():
+            made = getattr(importlib.import_module(f"everyzone.{file}"), name)
+            for one in properties:
+                self.assertIsInstance(vars(made)[one], property)
+
+
+if __name__ == "__main__":
+    unittest.main()
