@@ -55,7 +55,7 @@ class Zone:
     def moments_of(self, reading):
         """The ascending list of the moments with a reading."""
         need_integer(reading)
-        offsets = [self.base, *[after for moment, before, after in self.rows]]
+        offsets = [self.base] + [after for moment, before, after in self.rows]
         # The same offset may be in force in several stretches, but it gives the reading one moment only.
         return sorted({reading - offset for offset in offsets if self.offset_at(reading - offset) == offset})
 
