@@ -47,6 +47,15 @@ def is_time_text(value):
     return int(value[:2]) < DAY_HOURS and int(value[3:]) < HOUR_LENGTH
 
 
+def is_number_text(text, digits):
+    """Whether a string is an integer of at most so many digits, without a plus sign and without needless zeros."""
+    bare = text.removeprefix("-")
+    # The length is looked at first, because int refuses strings of very many digits.
+    if not 1 <= len(bare) <= digits or not all([sign in DIGITS for sign in bare]):
+        return False
+    return bare[0] != "0" or text == "0"
+
+
 def need_integer(value):
     """Refuse a value that is not an integer."""
     if not is_whole(value):

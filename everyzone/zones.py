@@ -5,6 +5,8 @@ from everyzone.words import is_whole, is_whole_pair, need_integer
 
 GREATEST_JUMP = 720
 RULES = ("ahead", "behind", "strict")
+# By the number of the moments that have the reading.
+TORN_WORDS = {0: "gap", 2: "fold"}
 
 
 class Zone:
@@ -106,7 +108,7 @@ def rows_of(offset, changes):
         if not is_whole_pair(item):
             raise InvalidChange(item)
         row = (item[0], before, item[1])
-        if not is_jump(jump_of(row)) or not can_follow(rows, row):
+        if not can_follow(rows, row):
             raise InvalidChange(item)
         rows.append(row)
         before = item[1]
@@ -114,7 +116,9 @@ def rows_of(offset, changes):
 
 
 def can_follow(rows, row):
-    """Whether a row is far enough behind the last one of the rows, if there is one."""
+    """Whether a row has a jump and is far enough behind the last one of the rows, if there is one."""
+    if not is_jump(jump_of(row)):
+        return False
     if len(rows) == 0:
         return True
     last = rows[-1]
@@ -144,6 +148,11 @@ def placed_at_change(row, reading, rule):
     if rule == "behind":
         return reading - row[2]
     return None
+
+
+def torn_word(zone, reading):
+    """The word for a reading in a gap or in a fold of a zone, or None for any other reading."""
+    return TORN_WORDS.get(len(zone.moments_of(reading)))
 
 
 def is_rule(value):

@@ -20,6 +20,18 @@ FUNCTIONS = {
         "time_from": "(text)",
     },
     "zones": {"unlike_at": "(one, other)"},
+    "kinds": {"zone_with": "(offset, steps)", "outside": "(one, other)"},
+    "running": {
+        "run": "(program, zone, start)",
+        "values": "(program, zone, start)",
+        "met": "(program, zone, start)",
+    },
+    "bounds": {
+        "settle": "(bounds)",
+        "holds": "(bounds, values)",
+        "shows_ring": "(bounds, ring)",
+        "tightest": "(bounds, x, y)",
+    },
 }
 
 METHODS = {
@@ -41,9 +53,31 @@ METHODS = {
         "until": "(self, moment)",
         "since": "(self, moment)",
     },
+    ("kinds", "Kind"): {
+        "__init__": "(self, jumps, apart, most=2)",
+        "__contains__": "(self, x)",
+        "__eq__": "(self, other)",
+        "has": "(self, zone)",
+        "why_not": "(self, zone)",
+    },
+    ("programs", "Program"): {
+        "__init__": "(self, text)",
+        "lines": "(self)",
+        "answers": "(self)",
+        "__len__": "(self)",
+        "__contains__": "(self, x)",
+        "__eq__": "(self, other)",
+        "__str__": "(self)",
+        "kind_of": "(self, name)",
+        "reach": "(self)",
+    },
 }
 
-PROPERTIES = {("zones", "Zone"): ["first"]}
+PROPERTIES = {
+    ("zones", "Zone"): ["first"],
+    ("kinds", "Kind"): ["jumps", "apart", "most"],
+    ("programs", "Program"): ["low", "high"],
+}
 
 
 class Folder(unittest.TestCase):

@@ -2,28 +2,18 @@
 
 import unittest
 
-from everyzone.errors import InvalidInteger, InvalidText, InvalidTime, NoProgram, TimeError
+from everyzone.errors import InvalidInteger, InvalidText, InvalidTime, NoProgram
 from everyzone.words import (
     day_of, is_integer, is_name, is_time, reading_of, time_from, time_of, time_text,
 )
 from everyzone.zones import Zone
-
-LONG = 10 ** 30 - 1
+from tests.checking import LONG, Checking
 
 # No integers, and values of every other sort; True and False are among them.
 NOT_INTEGERS = [
     None, True, False, "", "1", "01:30", "a", (), (1,), [], [1], {}, {"a": 1}, {1: 1}, [[[[[1]]]]],
     Zone(0), Zone(1, [(5, 6)]), NoProgram(), InvalidTime(3), list(range(300)),
 ]
-
-
-class Refusing(unittest.TestCase):
-    def refused(self, error, value, call, *args, **named):
-        """The call raises just this error, and the error keeps the very object."""
-        with self.assertRaises(TimeError) as caught:
-            call(*args, **named)
-        self.assertIs(type(caught.exception), error)
-        self.assertIs(caught.exception.value, value)
 
 
 class IsInteger(unittest.TestCase):
@@ -97,7 +87,7 @@ class IsTime(unittest.TestCase):
         self.assertIs(is_time(value=0), True)
 
 
-class Readings(Refusing):
+class Readings(Checking):
     def test_example_of_the_document(self):
         told = [day_of(-1), time_of(-1), reading_of(2, 90), time_text(90), time_from("23:59")]
         self.assertEqual(told, [-1, 1439, 2970, "01:30", 1439])
@@ -143,7 +133,7 @@ class Readings(Refusing):
         self.assertEqual(reading_of(time=3, day=1), 1443)
 
 
-class Texts(Refusing):
+class Texts(Checking):
     def test_time_text(self):
         for time, text in ((0, "00:00"), (1, "00:01"), (59, "00:59"), (60, "01:00"), (599, "09:59"),
                            (600, "10:00"), (1200, "20:00"), (1439, "23:59")):

@@ -3,11 +3,11 @@
 import copy
 import unittest
 
-from everyzone.errors import InvalidChange, InvalidInteger, InvalidPart, InvalidRule, NotZone, TimeError
+from everyzone.errors import InvalidChange, InvalidInteger, InvalidPart, InvalidRule, NotZone
 from everyzone.words import time_of
 from everyzone.zones import Zone, unlike_at
+from tests.checking import LONG, Checking, moments_by_hand, offset_by_hand
 
-LONG = 10 ** 30 - 1
 RULES = ("ahead", "behind", "strict")
 
 NOT_INTEGERS = [
@@ -42,22 +42,6 @@ SMALL = [
 ]
 
 
-def offset_by_hand(first, changes, moment):
-    """The offset of the last change that is not behind a moment."""
-    return ([first] + [offset for change, offset in changes if change <= moment])[-1]
-
-
-def moments_by_hand(first, changes, low, high):
-    """The moments of each reading from low to high, found minute by minute."""
-    found = {reading: [] for reading in range(low, high)}
-    spread = max([abs(first)] + [abs(offset) for moment, offset in changes])
-    for moment in range(low - spread, high + spread):
-        reading = moment + offset_by_hand(first, changes, moment)
-        if low <= reading < high:
-            found[reading].append(moment)
-    return found
-
-
 def window(first, changes):
     """Readings well around all changes of a zone."""
     moments = [moment for moment, offset in changes] or [0]
@@ -74,15 +58,6 @@ def stretches(readings):
         else:
             found.append((reading, reading + 1))
     return found
-
-
-class Checking(unittest.TestCase):
-    def refused(self, error, value, call, *args, **named):
-        """The call raises just this error, and the error keeps the very object."""
-        with self.assertRaises(TimeError) as caught:
-            call(*args, **named)
-        self.assertIs(type(caught.exception), error)
-        self.assertIs(caught.exception.value, value)
 
 
 class Making(Checking):
