@@ -5,6 +5,7 @@ from everyzone.words import is_whole, is_whole_pair, need_integer
 
 GREATEST_JUMP = 720
 RULES = ("ahead", "behind", "strict")
+FAULT_WORDS = ("gap", "fold")
 # By the number of the moments that have the reading.
 TORN_WORDS = {0: "gap", 2: "fold"}
 
@@ -153,6 +154,11 @@ def placed_at_change(row, reading, rule):
 def torn_word(zone, reading):
     """The word for a reading in a gap or in a fold of a zone, or None for any other reading."""
     return TORN_WORDS.get(len(zone.moments_of(reading)))
+
+
+def is_torn_word(value):
+    """Whether a value is the word for a gap or for a fold."""
+    return isinstance(value, str) and value in FAULT_WORDS
 
 
 def is_rule(value):

@@ -42,6 +42,19 @@ class Checking(unittest.TestCase):
         self.assertEqual(len(fields), 1)
         self.assertIs(fields[0], value)
 
+    def refused_in_order(self, call, good, wrong):
+        """Each wrong argument is refused alone, and also with all later ones wrong, by position and by name.
+
+        `good` are the arguments by name, `wrong` tuples of a name, an error and values, in the order of the checks.
+        """
+        for place, (name, error, values) in enumerate(wrong):
+            rest = {later: others[0] for later, other, others in wrong[place + 1:] if later != name}
+            for value in values:
+                for named in ({**good, name: value}, {**good, **rest, name: value}):
+                    self.refused(error, value, lambda: call(*named.values()))
+                    self.refused(error, value, lambda: call(**named))
+                    self.refused(error, value, lambda: call(**dict(reversed(named.items()))))
+
     def returns_new_lists(self, call):
         """Lists and dicts that the call returns may be modified, and inner ones too, without changing what it tells."""
         told, other = call(), call()

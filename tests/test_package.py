@@ -32,6 +32,35 @@ FUNCTIONS = {
         "shows_ring": "(bounds, ring)",
         "tightest": "(bounds, x, y)",
     },
+    "cases": {
+        "cases": "(program, kind)",
+        "meets": "(case, zone, start)",
+        "answers_in": "(case, time)",
+        "is_case": "(value)",
+    },
+    "outcomes": {
+        "values_of": "(program, kind, index)",
+        "showing": "(program, kind, index, value)",
+        "least": "(program, kind, index)",
+        "greatest": "(program, kind, index)",
+        "sure": "(program, kind)",
+        "together": "(program, kind, values)",
+    },
+    "faults": {
+        "faults": "(program, kind)",
+        "meeting": "(program, kind, index, word)",
+        "failing": "(program, kind)",
+        "failing_lines": "(program, kind)",
+        "most_faults": "(program, kind)",
+    },
+    "daily": {
+        "daily": "(zone, time, rule, day)",
+        "daily_list": "(zone, time, rule, day, many)",
+        "touched_days": "(zone, time)",
+        "spans": "(kind, rule, days)",
+        "span_shown": "(kind, rule, days, span)",
+        "most_touched": "(kind, days, word=None)",
+    },
 }
 
 METHODS = {
