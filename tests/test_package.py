@@ -61,6 +61,28 @@ FUNCTIONS = {
         "span_shown": "(kind, rule, days, span)",
         "most_touched": "(kind, days, word=None)",
     },
+    "comparing": {
+        "parting": "(one, other, kind)",
+        "alike": "(one, other, kind)",
+        "needless": "(program, kind)",
+        "safe_rules": "(program, kind, index)",
+    },
+    "logs": {
+        "fits": "(zone, log)",
+        "fitting": "(kind, log)",
+        "shortest_clash": "(kind, log)",
+        "offsets_at": "(kind, log, moment)",
+        "fitting_with": "(kind, log, moment, offset)",
+        "changes_between": "(kind, log)",
+        "change_stretches": "(kind, log)",
+    },
+    "texts": {
+        "kind_text": "(kind)",
+        "zone_text": "(zone)",
+        "case_text": "(case)",
+        "kind_of_text": "(text)",
+        "zone_of_text": "(text)",
+    },
 }
 
 METHODS = {
@@ -99,6 +121,16 @@ METHODS = {
         "__str__": "(self)",
         "kind_of": "(self, name)",
         "reach": "(self)",
+    },
+    ("session", "Session"): {
+        "__init__": "(self, kind, program=None)",
+        "kind": "(self)",
+        "program": "(self)",
+        "text": "(self)",
+        "done": "(self)",
+        "__len__": "(self)",
+        "say": "(self, line)",
+        "say_all": "(self, lines)",
     },
 }
 
