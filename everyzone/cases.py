@@ -118,7 +118,7 @@ def are_answers(value):
     """Whether a value tells the answers of a program, or where it fails."""
     if not isinstance(value, tuple) or not 1 <= len(value) <= MOST_ANSWERS:
         return False
-    if len(value) == 2 and isinstance(value[0], str) and value[0] == FAILS:
+    if len(value) == 2 and value[0] == FAILS:
         return is_whole(value[1]) and value[1] >= 1
     return all([is_answer(item) for item in value])
 

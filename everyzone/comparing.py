@@ -98,8 +98,7 @@ def time_unlike(answer, other, times):
     """One of some times at which two answers are different, or None."""
     low, high = times
     if isinstance(answer, bool) or isinstance(other, bool):
-        same = isinstance(answer, bool) and isinstance(other, bool) and answer == other
-        return None if same else low
+        return None if answer == other else low
     # Numbers with different signs are equal at one time at most.
     for time in (low, min(low + 1, high)):
         if answer[0] * time + answer[1] != other[0] * time + other[1]:

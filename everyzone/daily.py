@@ -141,28 +141,25 @@ def is_torn_by(jump, word):
 
 def touching(kind, jumps, days):
     """A zone with changes with these jumps, a time and the first of so many days on which each change touches it."""
-    for later in places_of(kind, jumps, days):
-        word, values = settle(touching_bounds(kind, jumps, later))
-        if word == "values":
-            steps = [(values[f"c{index}"], jump) for index, jump in enumerate(jumps)]
-            return zone_with(0, steps), time_of(values["reading"]), day_of(values["reading"])
-    return None
+    word, values = settle(touching_bounds(kind, jumps, days_touched(kind, jumps, days)))
+    if word == "ring":
+        return None
+    steps = [(values[f"c{index}"], jump) for index, jump in enumerate(jumps)]
+    return zone_with(0, steps), time_of(values["reading"]), day_of(values["reading"])
 
 
-def places_of(kind, jumps, days):
-    """The lists of days, counted from 0, that suffice to be tried as those on which the changes touch a reading.
+def days_touched(kind, jumps, days):
+    """The days, counted from 0, on which the changes touch a reading, if they can do so on any of so many days.
 
-    The last day is as late as it can be, because the last change may always be some days later.
+    The last day is as late as it can be, because the last change may always be some days later. The one in the middle
+    is as early as it can be: a day is longer than what the second change tears, so a later day is of no use.
     """
-    last = days - 1
     if len(jumps) < 3:
-        return [[0, last][:len(jumps)]]
-    # The first day for a reading at the end of what the first change tears and at the beginning for the second one;
-    # a day later the reading may be wherever the second one tears it.
+        return [0, days - 1][:len(jumps)]
+    # The earliest day is that of a reading at the end of what the first change tears and the beginning of the second.
     ahead = max(jumps[0], 0) - 1
     behind = kind.apart + jumps[0] + min(jumps[1], 0)
-    middle = -((ahead - behind) // DAY_LENGTH)
-    return [[0, middle, last], [0, middle + 1, last]]
+    return [0, -((ahead - behind) // DAY_LENGTH), days - 1]
 
 
 def touching_bounds(kind, jumps, later):

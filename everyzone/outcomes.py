@@ -88,7 +88,7 @@ def shown(program, kind, names, values):
 def times_with(answer, value, times):
     """The least and the greatest of some times at which an answer has a value, or NO_TIMES."""
     if isinstance(answer, bool) or isinstance(value, bool):
-        return times if isinstance(answer, bool) and isinstance(value, bool) and answer == value else NO_TIMES
+        return times if isinstance(value, bool) and answer == value else NO_TIMES
     sign, n = answer
     if sign == 0:
         return times if n == value else NO_TIMES

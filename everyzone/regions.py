@@ -96,16 +96,15 @@ def with_change(region, name, bound):
 
 
 def bounds_beside(region, name):
-    """The bounds between a change and the moments beside it that are known in a region: changes and the start."""
+    """The bounds between a change and the start, and the change beside it on the way to the start, if it is known.
+
+    Changes that are farther from the start are never known before it.
+    """
     at = ORDER.index(name)
-    found = [(ORDER[at - 1], name, -region.family.apart)] if at > 0 and ORDER[at - 1] in region.sizes else []
-    if at + 1 < len(ORDER) and ORDER[at + 1] in region.sizes:
-        found.append((name, ORDER[at + 1], -region.family.apart))
+    apart = region.family.apart
     if name in NEXT_NAMES:
-        found.append(("start", name, -1))
-    else:
-        found.append((name, "start", 0))
-    return found
+        return [("start", name, -1)] + [(other, name, -apart) for other in ORDER[at - 1:at] if other in region.sizes]
+    return [(name, "start", 0)] + [(name, other, -apart) for other in ORDER[at + 1:at + 2] if other in region.sizes]
 
 
 def bounds_told(region, name):

@@ -258,9 +258,9 @@ class Touched(Checking):
         self.assertEqual(len(seen), 12)
 
     def test_least_times_beside_whole_days(self):
-        for middle in (1440, 2880):
-            for beside in range(-4, 5):
-                kind = Kind([2, -1], middle + beside, 3)
+        for jumps in ([2, -1], [2], [-2], [1], [-1]):
+            for apart in (*range(1433, 1448), 2880, 2881):
+                kind = Kind(jumps, apart, 3)
                 need = days_needed(kind, None)
                 for count, least in list(need.items())[1:]:
                     self.check_touched(kind, least, None, count)
